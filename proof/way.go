@@ -1,0 +1,134 @@
+package proof
+
+import (
+	"thicket/api"
+	"thicket/digest"
+)
+
+// The kinds of proofs: at what the way of the index ends.
+const (
+	endsEmpty = 0
+	endsHere  = 1 // at a leaf of this index
+	endsOther = 2 // at a leaf of another index
+)
+
+const (
+	headSize = 3 // bytes: the kind, and d in two
+	maxDepth = 8 * api.IndexSize
+)
+
+// way is what a proof tells, read. Its texts are pieces of the proof.
+type way struct {
+	width, kind int
+	siblings    []string // one for each depth, also those that are empty trees
+	value       string   // if it ends here
+	other       string   // if it ends at another index: that one,
+	otherValue  string   // and the digest of its value
+}
+
+// read reads a proof and holds it against the root. All that may be wrong with
+// it goes to one place.
+func read(root, index, text string) (way, api.Errno) {
+	w := way{width: len(root)}
+	empty := digest.Empty(w.width)
+	fault := api.ErrForm
+	depth, marks := 0, ""
+
+	if len(text) < headSize {
+		goto wrong
+	}
+	w.kind, depth, text = int(text[0]), int(text[1])<<8|int(text[2]), text[headSize:]
+	if w.kind > endsOther || depth > maxDepth || len(text) < bytesOf(depth) {
+		goto wrong
+	}
+	marks, text = text[:bytesOf(depth)], text[bytesOf(depth):]
+	if marked(marks, depth) {
+		goto wrong
+	}
+	for at := range depth {
+		sibling := empty
+		if bit(marks, at) {
+			if len(text) < w.width || text[:w.width] == empty {
+				goto wrong
+			}
+			sibling, text = text[:w.width], text[w.width:]
+		}
+		w.siblings = append(w.siblings, sibling)
+	}
+	switch w.kind {
+	case endsEmpty:
+		if text != "" {
+			goto wrong
+		}
+	case endsHere:
+		if len(text) > api.MaxValue {
+			goto wrong
+		}
+		w.value = text
+	case endsOther:
+		if len(text) != api.IndexSize+w.width {
+			goto wrong
+		}
+		w.other, w.otherValue = text[:api.IndexSize], text[api.IndexSize:]
+		if w.other == index || !sameStart(w.other, index, depth) {
+			goto wrong
+		}
+	}
+	if fault = api.ErrRoot; w.root(index) != root {
+		goto wrong
+	}
+	return w, api.OK
+
+wrong:
+	return way{}, fault
+}
+
+// root is the digest at which the way comes out, from its end up.
+func (w way) root(index string) string {
+	up := w.end(index)
+	for at := len(w.siblings) - 1; at >= 0; at-- {
+		if bit(index, at) {
+			up = digest.Node(w.width, w.siblings[at], up)
+		} else {
+			up = digest.Node(w.width, up, w.siblings[at])
+		}
+	}
+	return up
+}
+
+// end is the digest of that at which the way ends.
+func (w way) end(index string) string {
+	switch w.kind {
+	case endsHere:
+		return digest.Leaf(w.width, index, digest.Value(w.width, w.value))
+	case endsOther:
+		return digest.Leaf(w.width, w.other, w.otherValue)
+	}
+	return digest.Empty(w.width)
+}
+
+// bytesOf is in how many bytes so many bits stand.
+func bytesOf(count int) int { return (count + 7) / 8 }
+
+// bit says if the bit at a place is 1; the highest of the first byte is at 0.
+func bit(text string, at int) bool { return text[at/8]<<(at%8)&0x80 != 0 }
+
+// marked says if a bit from that place on is 1.
+func marked(marks string, from int) bool {
+	for at := from; at < 8*len(marks); at++ {
+		if bit(marks, at) {
+			return true
+		}
+	}
+	return false
+}
+
+// sameStart says if the first bits of two indexes are the same, so many of them.
+func sameStart(one, two string, count int) bool {
+	for at := range count {
+		if bit(one, at) != bit(two, at) {
+			return false
+		}
+	}
+	return true
+}
