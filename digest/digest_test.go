@@ -99,12 +99,26 @@ func TestTreeDigests(t *testing.T) {
 			"Empty":          {Empty(width), h("\x00")},
 			"Value":          {Value(width, "v"), h("\x04", "v")},
 			"Value, no byte": {Value(width, ""), h("\x04")},
-			"Leaf":           {Leaf(width, index, Value(width, "v")), h("\x01", index, h("\x04", "v"))},
-			"Node":           {Node(width, Empty(width), Value(width, "v")), h("\x02", h("\x00"), h("\x04", "v"))},
+			"Leaf":           {Of(width, LeafText(index, Value(width, "v"))), h("\x01", index, h("\x04", "v"))},
+			"Node":           {Of(width, NodeText(Empty(width), Value(width, "v"))), h("\x02", h("\x00"), h("\x04", "v"))},
 		} {
 			if pair[0] != pair[1] {
 				t.Errorf("%s of the width %d = %x, want %x", what, width, pair[0], pair[1])
 			}
+		}
+	}
+}
+
+func TestTreeTexts(t *testing.T) {
+	for what, pair := range map[string][2]string{
+		"EmptyText":          {EmptyText(), "\x00"},
+		"ValueText":          {ValueText("v"), "\x04v"},
+		"ValueText, no byte": {ValueText(""), "\x04"},
+		"LeafText":           {LeafText("index", "digest"), "\x01indexdigest"},
+		"NodeText":           {NodeText("zero", "one"), "\x02zeroone"},
+	} {
+		if pair[0] != pair[1] {
+			t.Errorf("%s = %x, want %x", what, pair[0], pair[1])
 		}
 	}
 }

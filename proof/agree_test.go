@@ -1,7 +1,10 @@
 package proof
 
 import (
+	"maps"
 	"math/rand"
+	"slices"
+	"strconv"
 	"strings"
 	"testing"
 
@@ -147,5 +150,103 @@ func FuzzVerify(f *testing.F) {
 	f.Add("\x6e", from("\x80"), "\x02\x00\x01\x80\x01"+from("\x81")+"x")
 	f.Fuzz(func(t *testing.T, root, index, text string) {
 		agree(t, map[api.Errno]int{}, root, index, text)
+	})
+}
+
+// claimOf is a proof, which Verify takes, in its parts.
+func claimOf(width int, text string) claim {
+	d := int(text[1])*256 + int(text[2])
+	c := claim{kind: text[0]}
+	marks, rest := text[3:3+(d+7)/8], text[3+(d+7)/8:]
+	for at := range d {
+		if bitOf(marks, at) == 0 {
+			c.siblings = append(c.siblings, h(width, "\x00"))
+			continue
+		}
+		c.siblings, rest = append(c.siblings, rest[:width]), rest[width:]
+	}
+	c.end = rest
+	return c
+}
+
+// slowClash is P5 by the document's words, step by step.
+func slowClash(root, index, one, two string) (string, string, api.Errno) {
+	v, e := slowVerify(root, index, one)
+	if e != api.OK {
+		return "", "", e
+	}
+	u, e := slowVerify(root, index, two)
+	if e != api.OK {
+		return "", "", e
+	}
+	if v == u {
+		return "", "", api.ErrArg
+	}
+	width := len(root)
+	c, d := claimOf(width, one), claimOf(width, two)
+	for depth := 0; ; depth++ {
+		a, b := c.textAt(width, index, depth), d.textAt(width, index, depth)
+		if a != b {
+			return a, b, api.OK
+		}
+		if len(c.siblings) == depth {
+			return "\x04" + c.end, "\x04" + d.end, api.OK
+		}
+	}
+}
+
+func agreeOnClash(t *testing.T, seen map[string]int, root, index, one, two string) {
+	t.Helper()
+	a, b, e := Clash(root, index, one, two)
+	x, y, f := slowClash(root, index, one, two)
+	if a != x || b != y || e != f {
+		t.Errorf("P5: Clash(%x, %x, %x, %x) = %x, %x, %d, want %x, %x, %d", root, index, one, two, a, b, e, x, y, f)
+	}
+	if e != api.OK {
+		seen["error "+strconv.Itoa(int(e))]++
+		return
+	}
+	if a == b || h(len(root), a) != h(len(root), b) {
+		t.Errorf("P5: %x, %x: these are no two texts with one digest", a, b)
+	}
+	seen[strconv.Itoa(int(a[0]))+" and "+strconv.Itoa(int(b[0]))]++
+}
+
+// TestClashAgreesOnChance: digests of one byte, of which many come out at one
+// root by chance; some proofs are mangled behind that.
+func TestClashAgreesOnChance(t *testing.T) {
+	r := rand.New(rand.NewSource(4))
+	seen := map[string]int{}
+	for range 12 {
+		index := randomIndex(r)
+		byRoot := map[string][]string{}
+		for range 1500 {
+			c := randomClaim(r, 1, index, byte(r.Intn(3)), some(1, r.Intn(2)), r.Intn(3))
+			root := c.root(1, index)
+			byRoot[root] = append(byRoot[root], c.written(1))
+		}
+		for _, root := range slices.Sorted(maps.Keys(byRoot)) {
+			texts := byRoot[root]
+			for range 20 {
+				one, two := texts[r.Intn(len(texts))], texts[r.Intn(len(texts))]
+				agreeOnClash(t, seen, root, index, one, two)
+				agreeOnClash(t, seen, root, index, mangled(r, one), two)
+				agreeOnClash(t, seen, root, index, one, mangled(r, two))
+			}
+		}
+	}
+	for _, what := range []string{"error 1", "error 2", "error 3", "0 and 1", "1 and 0", "0 and 2", "2 and 0", "1 and 1", "1 and 2", "2 and 1", "2 and 2", "4 and 4"} {
+		if seen[what] < 3 {
+			t.Errorf("%s came %d times only: the test says little of it", what, seen[what])
+		}
+	}
+}
+
+func FuzzClash(f *testing.F) {
+	f.Add(h(32, "\x00"), from(""), "\x00\x00\x00", "\x00\x00\x00")
+	f.Add("\x6e", from("\x80"), "\x00\x00\x00", "\x01\x00\x01\x80\x01v")
+	f.Add("\x6e", from("\x80"), "\x01\x00\x00v", "\x02\x00\x01\x80\x01"+from("\x81")+"x")
+	f.Fuzz(func(t *testing.T, root, index, one, two string) {
+		agreeOnClash(t, map[string]int{}, root, index, one, two)
 	})
 }

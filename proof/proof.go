@@ -18,7 +18,7 @@ func Digest(width int, text string) (string, api.Errno) {
 
 // Verify looks what a proof proves of an index, under a root (P4).
 func Verify(root, index, proof string) (api.Verdict, api.Errno) {
-	if !isWidth(len(root)) || len(index) != api.IndexSize {
+	if !mayAsk(root, index) {
 		return api.Verdict{}, api.ErrArg
 	}
 	w, fault := read(root, index, proof)
@@ -29,7 +29,44 @@ func Verify(root, index, proof string) (api.Verdict, api.Errno) {
 }
 
 // Clash tells two texts with one digest, of two proofs that say different things (P5).
-func Clash(root, index, one, two string) (string, string, api.Errno) { return "", "", 0 }
+func Clash(root, index, one, two string) (string, string, api.Errno) {
+	if !mayAsk(root, index) {
+		return "", "", api.ErrArg
+	}
+	first, fault := read(root, index, one)
+	if fault != api.OK {
+		return "", "", fault
+	}
+	second, fault := read(root, index, two)
+	if fault != api.OK {
+		return "", "", fault
+	}
+	if first.verdict() == second.verdict() {
+		return "", "", api.ErrArg
+	}
+	a, b := apart(first, second, index)
+	return a, b, api.OK
+}
+
+// apart is the first two texts, from the whole tree on, in which two ways differ
+// that come out at one root and prove different things.
+func apart(one, two way, index string) (string, string) {
+	first, second := one.texts(index), two.texts(index)
+	// Where only one of them ends, its text begins otherwise than the other's,
+	// which is a node's: so what is behind the shorter one's end is not asked.
+	for at := range min(len(first), len(second)) {
+		if first[at] != second[at] {
+			return first[at], second[at]
+		}
+	}
+	// One leaf, and yet two things proved: only the values are left.
+	return digest.ValueText(one.value), digest.ValueText(two.value)
+}
+
+// mayAsk says if something may be proved of this index under this root.
+func mayAsk(root, index string) bool {
+	return isWidth(len(root)) && len(index) == api.IndexSize
+}
 
 func isWidth(width int) bool { return 1 <= width && width <= api.MaxWidth }
 

@@ -83,28 +83,35 @@ wrong:
 	return way{}, fault
 }
 
-// root is the digest at which the way comes out, from its end up.
-func (w way) root(index string) string {
-	up := w.end(index)
-	for at := len(w.siblings) - 1; at >= 0; at-- {
+// root is the digest at which the way comes out.
+func (w way) root(index string) string { return digest.Of(w.width, w.texts(index)[0]) }
+
+// texts are those of which the digests on the way are made, one for each depth,
+// from the whole tree on: the nodes', and in the end that of where it ends.
+func (w way) texts(index string) []string {
+	depth := len(w.siblings)
+	texts := make([]string, depth+1)
+	texts[depth] = w.end(index)
+	for at := depth - 1; at >= 0; at-- {
+		under := digest.Of(w.width, texts[at+1])
 		if bit(index, at) {
-			up = digest.Node(w.width, w.siblings[at], up)
+			texts[at] = digest.NodeText(w.siblings[at], under)
 		} else {
-			up = digest.Node(w.width, up, w.siblings[at])
+			texts[at] = digest.NodeText(under, w.siblings[at])
 		}
 	}
-	return up
+	return texts
 }
 
-// end is the digest of that at which the way ends.
+// end is the text of which the digest is made of that at which the way ends.
 func (w way) end(index string) string {
 	switch w.kind {
 	case endsHere:
-		return digest.Leaf(w.width, index, digest.Value(w.width, w.value))
+		return digest.LeafText(index, digest.Value(w.width, w.value))
 	case endsOther:
-		return digest.Leaf(w.width, w.other, w.otherValue)
+		return digest.LeafText(w.other, w.otherValue)
 	}
-	return digest.Empty(w.width)
+	return digest.EmptyText()
 }
 
 // bytesOf is in how many bytes so many bits stand.
