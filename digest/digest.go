@@ -47,12 +47,16 @@ func Of(width int, text string) string {
 func padding(length int) string {
 	end := (length + 1 + lengthSize) % blockSize
 	zeros := (blockSize - end) % blockSize
-	var size [lengthSize]byte
-	count := uint64(length) * 8
-	for i := range size {
-		size[i] = byte(count >> (8 * (lengthSize - 1 - i)))
+	return "\x80" + strings.Repeat("\x00", zeros) + eightBytes(uint64(length)*8)
+}
+
+// eightBytes is a number, the highest byte first.
+func eightBytes(number uint64) string {
+	var out [8]byte
+	for i := range out {
+		out[i] = byte(number >> (56 - 8*i))
 	}
-	return "\x80" + strings.Repeat("\x00", zeros) + string(size[:])
+	return string(out[:])
 }
 
 func mixBlocks(state [stateSize]uint32, text string) [stateSize]uint32 {

@@ -101,6 +101,9 @@ func TestTreeDigests(t *testing.T) {
 			"Value, no byte": {Value(width, ""), h("\x04")},
 			"Leaf":           {Of(width, LeafText(index, Value(width, "v"))), h("\x01", index, h("\x04", "v"))},
 			"Node":           {Of(width, NodeText(Empty(width), Value(width, "v"))), h("\x02", h("\x00"), h("\x04", "v"))},
+			"FirstHead":      {FirstHead(width), h("\x03")},
+			"Head":           {Head(width, "head", 1, "root"), h("\x03head\x00\x00\x00\x00\x00\x00\x00\x01root")},
+			"Head, far on":   {Head(width, "head", 0x0102030405060708, "root"), h("\x03head\x01\x02\x03\x04\x05\x06\x07\x08root")},
 		} {
 			if pair[0] != pair[1] {
 				t.Errorf("%s of the width %d = %x, want %x", what, width, pair[0], pair[1])

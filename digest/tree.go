@@ -6,6 +6,7 @@ const (
 	emptyTag = "\x00"
 	leafTag  = "\x01"
 	nodeTag  = "\x02"
+	headTag  = "\x03"
 	valueTag = "\x04"
 )
 
@@ -28,3 +29,11 @@ func Empty(width int) string { return Of(width, EmptyText()) }
 
 // Value is the digest by which a leaf tells its value.
 func Value(width int, value string) string { return Of(width, ValueText(value)) }
+
+// FirstHead is the head of the epoch 0.
+func FirstHead(width int) string { return Of(width, headTag) }
+
+// Head is the head of an epoch behind another one, of the head of that.
+func Head(width int, ahead string, epoch int, root string) string {
+	return Of(width, headTag+ahead+eightBytes(uint64(epoch))+root)
+}

@@ -6,6 +6,7 @@ import (
 
 	"thicket/api"
 	"thicket/digest"
+	"thicket/layout"
 )
 
 // Digest is the digest of some bytes, so many bytes of it (P3).
@@ -72,7 +73,7 @@ func isWidth(width int) bool { return 1 <= width && width <= api.MaxWidth }
 
 // verdict gives the value as new memory: the way's is a piece of the proof.
 func (w way) verdict() api.Verdict {
-	if w.kind == endsHere {
+	if w.kind == layout.EndsHere {
 		return api.Verdict{Kind: api.Present, Value: strings.Clone(w.value)}
 	}
 	return api.Verdict{Kind: api.Absent}

@@ -3,18 +3,7 @@ package proof
 import (
 	"thicket/api"
 	"thicket/digest"
-)
-
-// The kinds of proofs: at what the way of the index ends.
-const (
-	endsEmpty = 0
-	endsHere  = 1 // at a leaf of this index
-	endsOther = 2 // at a leaf of another index
-)
-
-const (
-	headSize = 3 // bytes: the kind, and d in two
-	maxDepth = 8 * api.IndexSize
+	"thicket/layout"
 )
 
 // way is what a proof tells, read. Its texts are pieces of the proof.
@@ -34,20 +23,20 @@ func read(root, index, text string) (way, api.Errno) {
 	fault := api.ErrForm
 	depth, marks := 0, ""
 
-	if len(text) < headSize {
+	if len(text) < layout.HeadSize {
 		goto wrong
 	}
-	w.kind, depth, text = int(text[0]), int(text[1])<<8|int(text[2]), text[headSize:]
-	if w.kind > endsOther || depth > maxDepth || len(text) < bytesOf(depth) {
+	w.kind, depth, text = int(text[0]), int(text[1])<<8|int(text[2]), text[layout.HeadSize:]
+	if w.kind > layout.EndsOther || depth > layout.MaxDepth || len(text) < layout.BytesOf(depth) {
 		goto wrong
 	}
-	marks, text = text[:bytesOf(depth)], text[bytesOf(depth):]
+	marks, text = text[:layout.BytesOf(depth)], text[layout.BytesOf(depth):]
 	if marked(marks, depth) {
 		goto wrong
 	}
 	for at := range depth {
 		sibling := empty
-		if bit(marks, at) {
+		if layout.Bit(marks, at) {
 			if len(text) < w.width || text[:w.width] == empty {
 				goto wrong
 			}
@@ -56,16 +45,16 @@ func read(root, index, text string) (way, api.Errno) {
 		w.siblings = append(w.siblings, sibling)
 	}
 	switch w.kind {
-	case endsEmpty:
+	case layout.EndsEmpty:
 		if text != "" {
 			goto wrong
 		}
-	case endsHere:
+	case layout.EndsHere:
 		if len(text) > api.MaxValue {
 			goto wrong
 		}
 		w.value = text
-	case endsOther:
+	case layout.EndsOther:
 		if len(text) != api.IndexSize+w.width {
 			goto wrong
 		}
@@ -94,7 +83,7 @@ func (w way) texts(index string) []string {
 	texts[depth] = w.end(index)
 	for at := depth - 1; at >= 0; at-- {
 		under := digest.Of(w.width, texts[at+1])
-		if bit(index, at) {
+		if layout.Bit(index, at) {
 			texts[at] = digest.NodeText(w.siblings[at], under)
 		} else {
 			texts[at] = digest.NodeText(under, w.siblings[at])
@@ -106,24 +95,18 @@ func (w way) texts(index string) []string {
 // end is the text of which the digest is made of that at which the way ends.
 func (w way) end(index string) string {
 	switch w.kind {
-	case endsHere:
+	case layout.EndsHere:
 		return digest.LeafText(index, digest.Value(w.width, w.value))
-	case endsOther:
+	case layout.EndsOther:
 		return digest.LeafText(w.other, w.otherValue)
 	}
 	return digest.EmptyText()
 }
 
-// bytesOf is in how many bytes so many bits stand.
-func bytesOf(count int) int { return (count + 7) / 8 }
-
-// bit says if the bit at a place is 1; the highest of the first byte is at 0.
-func bit(text string, at int) bool { return text[at/8]<<(at%8)&0x80 != 0 }
-
 // marked says if a bit from that place on is 1.
 func marked(marks string, from int) bool {
 	for at := from; at < 8*len(marks); at++ {
-		if bit(marks, at) {
+		if layout.Bit(marks, at) {
 			return true
 		}
 	}
@@ -133,7 +116,7 @@ func marked(marks string, from int) bool {
 // sameStart says if the first bits of two indexes are the same, so many of them.
 func sameStart(one, two string, count int) bool {
 	for at := range count {
-		if bit(one, at) != bit(two, at) {
+		if layout.Bit(one, at) != layout.Bit(two, at) {
 			return false
 		}
 	}
