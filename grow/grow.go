@@ -26,9 +26,9 @@ func New(width, room int) *Trees {
 	return &Trees{width: width, room: room, empty: digest.Empty(width), tops: []*cell{nil}}
 }
 
-// Grow makes one more tree, of the last one with changes in it, which are sorted
+// Next makes one more tree, of the last one with changes in it, which are sorted
 // by their indexes, none twice: or says ErrLong or ErrFull.
-func (t *Trees) Grow(changes []api.Update) api.Errno {
+func (t *Trees) Next(changes []api.Update) api.Errno {
 	last := t.tops[len(t.tops)-1]
 	changes, more := last.effective(changes)
 	if t.size+more > api.MaxEntries {

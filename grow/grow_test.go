@@ -8,6 +8,7 @@ import (
 
 	"thicket/api"
 	"thicket/digest"
+	"thicket/gather"
 )
 
 // from is the index that begins with some bytes and goes on with zeros.
@@ -35,8 +36,8 @@ func some(seed int64, count int, start string) []api.Update {
 
 func grown(t *testing.T, trees *Trees, want api.Errno, changes ...api.Update) {
 	t.Helper()
-	if got := trees.Grow(changes); got != want {
-		t.Fatalf("Grow(%d changes) = %d, want %d", len(changes), got, want)
+	if got := trees.Next(changes); got != want {
+		t.Fatalf("Next(%d changes) = %d, want %d", len(changes), got, want)
 	}
 	sound(t, trees)
 }
@@ -190,9 +191,9 @@ func TestParts(t *testing.T) {
 		"one leaf":          {some(1, 1, ""), 1, 1},
 		"two":               {[]api.Update{put(from(""), ""), put(from("\x80"), "")}, 2, 2},
 		"two, deep":         {[]api.Update{put(from(""), ""), put(twin(from("")), "")}, 2, 2},
-		"many":              {some(2, 200, ""), enough, 2*enough - 1},
-		"many, deep":        {some(3, 200, "all begin with this text"), enough, 2*enough - 1},
-		"more than a batch": {some(4, 2000, ""), enough, 2*enough - 1},
+		"many":              {some(2, 200, ""), gather.Enough, 2*gather.Enough - 1},
+		"many, deep":        {some(3, 200, "all begin with this text"), gather.Enough, 2*gather.Enough - 1},
+		"more than a batch": {some(4, 2000, ""), gather.Enough, 2*gather.Enough - 1},
 	} {
 		_, top := planted(run.entries)
 		list := parts(top)

@@ -1,13 +1,9 @@
 package grow
 
 import (
-	"sync"
-
 	"thicket/digest"
+	"thicket/gather"
 )
-
-// enough parts keep the machine busy; more of them would but wait for each other.
-const enough = 16
 
 // worked is a cell and the digest that was worked out for it.
 type worked struct {
@@ -25,30 +21,8 @@ func (t *Trees) workOut(top *cell) {
 // workParts works out the digests of trees, each by a goroutine of its own. These
 // tell what they have worked out; the cells are written into here alone.
 func (t *Trees) workParts(trees []*cell) {
-	results := make(chan []worked)
-	defer close(results)
-	done := make(chan struct{})
-	var workers sync.WaitGroup
-	for _, part := range trees {
-		workers.Add(1)
-		go func() {
-			defer workers.Done()
-			results <- t.work(part)
-		}()
-	}
-	go func() {
-		defer close(done)
-		workers.Wait()
-	}()
-	for {
-		// All is taken when done is closed, for nobody is done ahead of that: results
-		// has no room of its own.
-		select {
-		case list := <-results:
-			write(list)
-		case <-done:
-			return
-		}
+	for _, list := range gather.All(trees, t.work) {
+		write(list)
 	}
 }
 
@@ -88,7 +62,7 @@ func (t *Trees) workUnder(c *cell, list []worked) (string, []worked) {
 func parts(top *cell) []*cell {
 	level := fresh(nil, top)
 	most := level
-	for len(level) > 0 && len(most) < enough {
+	for len(level) > 0 && len(most) < gather.Enough {
 		if level = under(level); len(level) > len(most) {
 			most = level
 		}

@@ -13,88 +13,105 @@ import (
 	"thicket/thicket"
 )
 
-// pair is a directory and the model of it.
-type pair struct {
+// trio is two directories, one of each engine, and the model of them.
+type trio struct {
 	t        *testing.T
-	d        *thicket.Directory
+	dirs     []*thicket.Directory // by the engine
 	model    *model
 	verified map[[4]string]bool // Verify says the same each time: it is asked once
 }
 
-func newPair(t *testing.T, c api.Config) *pair {
+// newTrio takes all but the engine of the configuration.
+func newTrio(t *testing.T, c api.Config) *trio {
 	t.Helper()
-	d, e := thicket.New(c)
-	if d == nil || e != api.OK {
-		t.Fatalf("P6: New(%+v) = %v, %d", c, d, e)
+	p := &trio{t, nil, newModel(c), map[[4]string]bool{}}
+	for _, c.Engine = range []int{api.Growing, api.Again} {
+		d, e := thicket.New(c)
+		if d == nil || e != api.OK {
+			t.Fatalf("P6: New(%+v) = %v, %d", c, d, e)
+		}
+		p.dirs = append(p.dirs, d)
 	}
-	return &pair{t, d, newModel(c), map[[4]string]bool{}}
+	return p
 }
 
-// apply has both apply a batch, and tells what they say if they agree.
-func (p *pair) apply(batch ...api.Update) api.Errno {
+// apply has all apply a batch, and tells what they say if they agree.
+func (p *trio) apply(batch ...api.Update) api.Errno {
 	p.t.Helper()
 	before := slices.Clone(batch)
-	got, e := p.d.Apply(batch)
 	want, f := p.model.apply(batch)
-	if got != want || e != f {
-		p.t.Fatalf("P7: Apply(%d updates) = %d, %d, want %d, %d", len(batch), got, e, want, f)
+	for engine, d := range p.dirs {
+		got, e := d.Apply(batch)
+		if got != want || e != f {
+			p.t.Fatalf("P7: engine %d: Apply(%d updates) = %d, %d, want %d, %d", engine, len(batch), got, e, want, f)
+		}
+		if !slices.Equal(batch, before) {
+			p.t.Fatalf("P2: engine %d: Apply wrote into the batch", engine)
+		}
 	}
-	if !slices.Equal(batch, before) {
-		p.t.Fatalf("P2: Apply wrote into the batch")
-	}
-	return e
+	return f
 }
 
-func (p *pair) prune(epoch int) api.Errno {
+func (p *trio) prune(epoch int) api.Errno {
 	p.t.Helper()
-	e, f := p.d.Prune(epoch), p.model.prune(epoch)
-	if e != f {
-		p.t.Fatalf("P8: Prune(%d) = %d, want %d", epoch, e, f)
+	f := p.model.prune(epoch)
+	for engine, d := range p.dirs {
+		if e := d.Prune(epoch); e != f {
+			p.t.Fatalf("P8: engine %d: Prune(%d) = %d, want %d", engine, epoch, e, f)
+		}
 	}
-	return e
+	return f
 }
 
-// agree holds all that the directory tells against the model: of each epoch that is
+// agree holds all that the directories tell against the model: of each epoch that is
 // kept, and of those about them, the proofs of these indexes too.
-func (p *pair) agree(indexes ...string) {
+func (p *trio) agree(indexes ...string) {
 	p.t.Helper()
-	first, last := p.d.Kept()
-	if first != p.model.kept[0].number || last != p.model.last().number {
-		p.t.Fatalf("P8: Kept() = %d, %d, want %d, %d", first, last, p.model.kept[0].number, p.model.last().number)
+	first, last := p.model.kept[0].number, p.model.last().number
+	for engine, d := range p.dirs {
+		if a, b := d.Kept(); a != first || b != last {
+			p.t.Fatalf("P8: engine %d: Kept() = %d, %d, want %d, %d", engine, a, b, first, last)
+		}
 	}
-	if got, want := p.d.Cells(), cellsOf(p.model.kept); got != want {
-		p.t.Fatalf("P8: Cells() = %d, want %d", got, want)
-	}
+	p.cells("as the model", cellsOf(p.model.kept))
 	for _, e := range p.model.kept {
 		p.agreeOf(e)
 		for _, index := range indexes {
 			p.agreeOn(e, index)
 		}
 	}
-	for _, number := range []int{first - 1, last + 1} {
-		p.notKept(number)
+	p.notKept(first - 1)
+	p.notKept(last + 1)
+}
+
+func (p *trio) cells(what string, want int) {
+	p.t.Helper()
+	for engine, d := range p.dirs {
+		if got := d.Cells(); got != want {
+			p.t.Fatalf("P8: engine %d: %s: Cells() = %d, want %d", engine, what, got, want)
+		}
 	}
 }
 
-func (p *pair) agreeOf(e epoch) {
+func (p *trio) agreeOf(e epoch) {
 	p.t.Helper()
-	if got, errno := p.d.Root(e.number); got != e.plan.digest || errno != api.OK {
-		p.t.Fatalf("P9: Root(%d) = %x, %d, want %x", e.number, got, errno, e.plan.digest)
-	}
-	if got, errno := p.d.Head(e.number); got != e.head || errno != api.OK {
-		p.t.Fatalf("P9: Head(%d) = %x, %d, want %x", e.number, got, errno, e.head)
-	}
-	if got, errno := p.d.Entries(e.number); !slices.Equal(got, e.state.list()) || errno != api.OK {
-		p.t.Fatalf("P9: Entries(%d) = %s, %d, want %s", e.number, shown(got), errno, shown(e.state.list()))
+	for engine, d := range p.dirs {
+		if got, errno := d.Root(e.number); got != e.plan.digest || errno != api.OK {
+			p.t.Fatalf("P9: engine %d: Root(%d) = %x, %d, want %x", engine, e.number, got, errno, e.plan.digest)
+		}
+		if got, errno := d.Head(e.number); got != e.head || errno != api.OK {
+			p.t.Fatalf("P9: engine %d: Head(%d) = %x, %d, want %x", engine, e.number, got, errno, e.head)
+		}
+		if got, errno := d.Entries(e.number); !slices.Equal(got, e.state.list()) || errno != api.OK {
+			p.t.Fatalf("P9: engine %d: Entries(%d) = %s, %d, want %s", engine, e.number, shown(got), errno, shown(e.state.list()))
+		}
 	}
 }
 
-func (p *pair) agreeOn(e epoch, index string) {
+func (p *trio) agreeOn(e epoch, index string) {
 	p.t.Helper()
-	text, errno := p.d.Prove(e.number, index)
-	if want := e.plan.prove(p.model.config.Width, index); text != want || errno != api.OK {
-		p.t.Fatalf("P10: Prove(%d, %x) = %x, %d, want %x", e.number, index, text, errno, want)
-	}
+	text := e.plan.prove(p.model.config.Width, index)
+	p.proves(e.number, index, text)
 	want := api.Verdict{Kind: api.Absent}
 	if value, ok := e.state[index]; ok {
 		want = api.Verdict{Kind: api.Present, Value: value}
@@ -109,18 +126,30 @@ func (p *pair) agreeOn(e epoch, index string) {
 	}
 }
 
-func (p *pair) notKept(epoch int) {
+// proves looks that both give this proof.
+func (p *trio) proves(epoch int, index, want string) {
 	p.t.Helper()
-	root, e1 := p.d.Root(epoch)
-	head, e2 := p.d.Head(epoch)
-	entries, e3 := p.d.Entries(epoch)
-	text, e4 := p.d.Prove(epoch, strings.Repeat("x", 32))
-	short, e5 := p.d.Prove(epoch, "x")
-	if root+head+text+short != "" || len(entries) > 0 {
-		p.t.Fatalf("P1: the epoch %d, which is not kept, has %x, %x, %d entries, %x, %x", epoch, root, head, len(entries), text, short)
+	for engine, d := range p.dirs {
+		if text, errno := d.Prove(epoch, index); text != want || errno != api.OK {
+			p.t.Fatalf("P10: engine %d: Prove(%d, %x) = %x, %d, want %x", engine, epoch, index, text, errno, want)
+		}
 	}
-	if !slices.Equal([]api.Errno{e1, e2, e3, e4, e5, p.d.Prune(epoch)}, slices.Repeat([]api.Errno{api.ErrEpoch}, 6)) {
-		p.t.Fatalf("P8 to P10: the epoch %d, which is not kept: %d, %d, %d, %d, %d, %d", epoch, e1, e2, e3, e4, e5, p.d.Prune(epoch))
+}
+
+func (p *trio) notKept(epoch int) {
+	p.t.Helper()
+	for engine, d := range p.dirs {
+		root, e1 := d.Root(epoch)
+		head, e2 := d.Head(epoch)
+		entries, e3 := d.Entries(epoch)
+		text, e4 := d.Prove(epoch, strings.Repeat("x", 32))
+		short, e5 := d.Prove(epoch, "x")
+		if root+head+text+short != "" || len(entries) > 0 {
+			p.t.Fatalf("P1: engine %d: the epoch %d, which is not kept, has %x, %x, %d entries, %x, %x", engine, epoch, root, head, len(entries), text, short)
+		}
+		if got := []api.Errno{e1, e2, e3, e4, e5, d.Prune(epoch)}; !slices.Equal(got, slices.Repeat([]api.Errno{api.ErrEpoch}, 6)) {
+			p.t.Fatalf("P8 to P10: engine %d: the epoch %d, which is not kept: %d", engine, epoch, got)
+		}
 	}
 }
 
@@ -186,17 +215,24 @@ func randomBatch(r *rand.Rand, indexes []string) []api.Update {
 	return out
 }
 
+// picked is some indexes of lists, so many.
+func picked(r *rand.Rand, count int, lists ...[]string) []string {
+	all := slices.Concat(lists...)
+	r.Shuffle(len(all), func(i, j int) { all[i], all[j] = all[j], all[i] })
+	return all[:min(count, len(all))]
+}
+
 // TestAgreesAtRandom: batches, prunings and refusals one behind the other, and
 // after each all answers of all epochs (P1, P7 to P11).
 func TestAgreesAtRandom(t *testing.T) {
 	r := rand.New(rand.NewSource(1))
 	seen := map[api.Errno]int{}
-	for range 150 {
-		c := api.Config{Engine: api.Growing, Width: []int{1, 2, 31, 32}[r.Intn(4)], Window: 1 + r.Intn(6), Cells: 100000}
+	for range 100 {
+		c := config([]int{1, 2, 31, 32}[r.Intn(4)], 1+r.Intn(6), 100000)
 		if r.Intn(2) == 0 {
 			c.Cells = 1 + r.Intn([]int{10, 50, 700, 5000}[r.Intn(4)])
 		}
-		p := newPair(t, c)
+		p := newTrio(t, c)
 		indexes, others := pool(r, 2+r.Intn(12)), pool(r, 2)
 		others = append(others, flip(indexes[0], r.Intn(256)), flip(indexes[1], r.Intn(256)))
 		for range 25 {
@@ -205,8 +241,9 @@ func TestAgreesAtRandom(t *testing.T) {
 			} else {
 				seen[p.apply(randomBatch(r, indexes)...)]++
 			}
-			p.agree(append(others, indexes...)...)
+			p.agree(picked(r, 4, others, indexes)...)
 		}
+		p.agree(append(others, indexes...)...)
 	}
 	for _, e := range []api.Errno{api.OK, api.ErrEpoch, api.ErrBatch, api.ErrLong, api.ErrFull} {
 		if seen[e] < 20 {
@@ -218,7 +255,7 @@ func TestAgreesAtRandom(t *testing.T) {
 // TestAgreesOnManyEntries: batches of many updates, which several goroutines work out.
 func TestAgreesOnManyEntries(t *testing.T) {
 	r := rand.New(rand.NewSource(2))
-	p := newPair(t, api.Config{Engine: api.Growing, Width: 32, Window: 3, Cells: 100000})
+	p := newTrio(t, config(32, 3, 100000))
 	var indexes []string
 	for range 40 {
 		indexes = append(indexes, pool(r, 10)...)
@@ -240,8 +277,7 @@ func FuzzDirectory(f *testing.F) {
 	f.Add(uint8(1), uint8(2), uint16(10), []byte("\x00\x01\x02\x10\x11\x03\xff\x01\x00\x00\x02\x02\xf0\x00\x00"))
 	f.Add(uint8(32), uint8(50), uint16(9000), []byte("\x01\x00\x01\x01\x0f\x01\xff\x00\x00\x41\x00\x00\xff\x00\x00"))
 	f.Fuzz(func(t *testing.T, width, window uint8, cells uint16, steps []byte) {
-		c := api.Config{Engine: api.Growing, Width: 1 + int(width)%32, Window: 1 + int(window)%50, Cells: 1 + int(cells)}
-		p := newPair(t, c)
+		p := newTrio(t, config(1+int(width)%32, 1+int(window)%50, 1+int(cells)))
 		indexes := pool(rand.New(rand.NewSource(int64(cells))), 16)
 		var batch []api.Update
 		for ; len(steps) >= 3; steps = steps[3:] {

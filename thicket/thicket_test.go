@@ -22,8 +22,9 @@ func from(start string) string { return start + strings.Repeat("\x00", 32-len(st
 func put(index, value string) api.Update { return api.Update{Index: index, Value: value} }
 func gone(index string) api.Update       { return api.Update{Index: index, Gone: true} }
 
-func growing(width, window, cells int) api.Config {
-	return api.Config{Engine: api.Growing, Width: width, Window: window, Cells: cells}
+// config is one of any engine.
+func config(width, window, cells int) api.Config {
+	return api.Config{Width: width, Window: window, Cells: cells}
 }
 
 // some is so many entries, no index twice.
@@ -48,7 +49,7 @@ func number(asked func(string) bool) string {
 }
 
 // must has a batch applied.
-func (p *pair) must(batch ...api.Update) {
+func (p *trio) must(batch ...api.Update) {
 	p.t.Helper()
 	if e := p.apply(batch...); e != api.OK {
 		p.t.Fatalf("P7: Apply(%d updates) = %d, want none", len(batch), e)
@@ -56,7 +57,7 @@ func (p *pair) must(batch ...api.Update) {
 }
 
 // refuses has a batch refused, and looks that all answers are as before.
-func (p *pair) refuses(want api.Errno, batch ...api.Update) {
+func (p *trio) refuses(want api.Errno, batch ...api.Update) {
 	p.t.Helper()
 	for range 2 {
 		if e := p.apply(batch...); e != want {
@@ -66,16 +67,9 @@ func (p *pair) refuses(want api.Errno, batch ...api.Update) {
 	}
 }
 
-func (p *pair) cells(what string, want int) {
-	p.t.Helper()
-	if got := p.d.Cells(); got != want {
-		p.t.Errorf("P8: %s: Cells() = %d, want %d", what, got, want)
-	}
-}
-
 func TestNewTakesTheBounds(t *testing.T) {
-	for _, c := range []api.Config{growing(1, 1, 1), growing(32, 50, 100000), growing(1, 50, 1), growing(32, 1, 100000)} {
-		p := newPair(t, c)
+	for _, c := range []api.Config{config(1, 1, 1), config(32, 50, 100000), config(1, 50, 1), config(32, 1, 100000)} {
+		p := newTrio(t, c)
 		p.agree(from(""), from("\xff"))
 		p.cells("nothing stands there", 0)
 		for _, epoch := range []int{1, -1, 2, 50, math.MaxInt, math.MinInt} {
@@ -85,30 +79,36 @@ func TestNewTakesTheBounds(t *testing.T) {
 }
 
 func TestNewRefuses(t *testing.T) {
+	refuses := func(c api.Config) {
+		t.Helper()
+		if d, e := thicket.New(c); d != nil || e != api.ErrArg {
+			t.Errorf("P6: New(%+v) = %v, %d, want ErrArg", c, d, e)
+		}
+	}
+	configs := []api.Config{{}, config(33, 1, 1), config(1, 51, 1), config(1, 1, 100001), config(33, 51, 100001)}
 	for _, wrong := range []int{math.MinInt, -1, 0, math.MaxInt} {
-		configs := []api.Config{growing(wrong, 1, 1), growing(1, wrong, 1), growing(1, 1, wrong)}
-		if wrong != 0 {
-			configs = append(configs, api.Config{Engine: wrong, Width: 1, Window: 1, Cells: 1})
+		configs = append(configs, config(wrong, 1, 1), config(1, wrong, 1), config(1, 1, wrong), config(wrong, wrong, wrong))
+	}
+	for _, c := range configs {
+		for _, c.Engine = range []int{api.Growing, api.Again} {
+			refuses(c)
 		}
-		configs = append(configs, growing(33, 1, 1), growing(1, 51, 1), growing(1, 1, 100001))
-		configs = append(configs, api.Config{Engine: 2, Width: 1, Window: 1, Cells: 1}, api.Config{})
-		for _, c := range configs {
-			if d, e := thicket.New(c); d != nil || e != api.ErrArg {
-				t.Errorf("P6: New(%+v) = %v, %d, want ErrArg", c, d, e)
-			}
-		}
+	}
+	for _, engine := range []int{math.MinInt, -1, 2, 3, 256, 1 << 32, 1<<32 + 1, math.MaxInt} {
+		refuses(api.Config{Engine: engine, Width: 1, Window: 1, Cells: 1})
+		refuses(api.Config{Engine: engine, Width: 32, Window: 50, Cells: 100000})
 	}
 }
 
 // TestExamples: what the document's last section says.
 func TestExamples(t *testing.T) {
-	p := newPair(t, growing(2, 1, 10))
-	if root, _ := p.d.Root(0); root != "\x6e\x34" {
-		t.Errorf("P9: the empty directory's root = %x", root)
+	p := newTrio(t, config(2, 1, 10))
+	for engine, d := range p.dirs {
+		if root, _ := d.Root(0); root != "\x6e\x34" {
+			t.Errorf("P9: engine %d: the empty directory's root = %x", engine, root)
+		}
 	}
-	if text, _ := p.d.Prove(0, from("any")); text != "\x00\x00\x00" {
-		t.Errorf("P10: the empty directory's proof = %x", text)
-	}
+	p.proves(0, from("any"), "\x00\x00\x00")
 	a, b := from(""), from("\x80")
 	p.must(put(a, "a"), put(b, "b"))
 	p.cells("a node of two leaves", 3)
@@ -119,20 +119,20 @@ func TestExamples(t *testing.T) {
 		b:            "\x01\x00\x01\x80" + leafA + "b",
 		from("\x40"): "\x02\x00\x01\x80" + leafB + a + h(2, "\x04", "a"),
 	} {
-		if text, e := p.d.Prove(1, index); text != want || e != api.OK {
-			t.Errorf("P10: Prove(1, %x) = %x, %d, want %x", index, text, e, want)
-		}
+		p.proves(1, index, want)
 	}
 }
 
 // TestLastUpdateCounts: of each index the value that is told last of it (P7).
 func TestLastUpdateCounts(t *testing.T) {
 	a, b, c := from(""), from("\x80"), from("\x40")
-	p := newPair(t, growing(32, 5, 100))
+	p := newTrio(t, config(32, 5, 100))
 	p.must(put(a, "1"), put(b, "1"), put(a, "2"), gone(b), gone(c), put(c, ""))
-	entries, _ := p.d.Entries(1)
-	if want := []api.Update{put(a, "2"), put(c, "")}; !slices.Equal(entries, want) {
-		t.Errorf("P7: %s, want %s", shown(entries), shown(want))
+	for engine, d := range p.dirs {
+		entries, _ := d.Entries(1)
+		if want := []api.Update{put(a, "2"), put(c, "")}; !slices.Equal(entries, want) {
+			t.Errorf("P7: engine %d: %s, want %s", engine, shown(entries), shown(want))
+		}
 	}
 	p.must(gone(a), put(a, "2"), put(c, "x"), put(c, ""))
 	p.agree(a, b, c)
@@ -163,7 +163,7 @@ func TestCellsInCommon(t *testing.T) {
 		{"values change places", 6, [][]api.Update{all[:2], {put(a, "b"), put(b, "a")}}},
 		{"one gives way at its place", 3, [][]api.Update{{put(a, "a")}, {gone(a), put(c, "a")}, {gone(c), put(a, "a")}}},
 	} {
-		p := newPair(t, growing(1, 5, 1000))
+		p := newTrio(t, config(1, 5, 1000))
 		for _, batch := range run.batches {
 			p.must(batch...)
 			p.agree(a, b, c, d, flip(a, 255))
@@ -174,7 +174,7 @@ func TestCellsInCommon(t *testing.T) {
 
 func TestCellsInCommonCounted(t *testing.T) {
 	a, b, c := from(""), from("\x80"), from("\x40")
-	p := newPair(t, growing(32, 9, 1000))
+	p := newTrio(t, config(32, 9, 1000))
 	for _, step := range []struct {
 		what  string
 		cells int
@@ -206,7 +206,7 @@ func TestCellsInCommonCounted(t *testing.T) {
 func TestLastBit(t *testing.T) {
 	for _, one := range []string{from(""), strings.Repeat("\xff", 32), strings.Repeat("\xa5\x5a", 16)} {
 		two := flip(one, 255)
-		p := newPair(t, growing(32, 50, 100000))
+		p := newTrio(t, config(32, 50, 100000))
 		p.must(put(one, "1"))
 		p.must(put(two, "2"))
 		p.cells("256 nodes and two leaves", 258)
@@ -221,34 +221,27 @@ func TestLastBit(t *testing.T) {
 // TestManyNewCells: 200 updates make at most 257 cells each (P11); these make all
 // but those few nodes that they have in common.
 func TestManyNewCells(t *testing.T) {
-	d, _ := thicket.New(growing(8, 2, 100000))
-	var twins []api.Update
+	var twins, others []api.Update
 	for _, u := range some(5, 200) {
 		twins = append(twins, put(flip(u.Index, 255), "twin"))
+		others = append(others, put(flip(u.Index, 255), "other"))
 	}
-	if _, e := d.Apply(some(5, 200)); e != api.OK {
-		t.Fatalf("P7: Apply = %d", e)
-	}
-	before := d.Cells()
-	if _, e := d.Apply(twins); e != api.OK {
-		t.Fatalf("P7: Apply = %d", e)
-	}
-	if more := d.Cells() - before; more > 200*257 || more < 200*240 {
-		t.Errorf("P11: 200 updates make %d cells", more)
+	p := newTrio(t, config(8, 2, 100000))
+	p.must(some(5, 200)...)
+	before := p.dirs[0].Cells()
+	p.must(twins...)
+	for engine, d := range p.dirs {
+		if more := d.Cells() - before; more > 200*257 || more < 200*240 {
+			t.Errorf("P11: engine %d: 200 updates make %d cells", engine, more)
+		}
 	}
 	// Beside both epochs there is no room for as many again.
-	for at := range twins {
-		twins[at].Value = "other"
-	}
-	before = d.Cells()
-	if n, e := d.Apply(twins); n != 0 || e != api.ErrFull || d.Cells() != before {
-		t.Errorf("P7: Apply = %d, %d, and %d cells, want ErrFull and %d", n, e, d.Cells(), before)
-	}
+	p.refuses(api.ErrFull, others...)
 }
 
 func TestBatchesThatMayNotBe(t *testing.T) {
 	a, b := from(""), from("\x80")
-	p := newPair(t, growing(32, 3, 3))
+	p := newTrio(t, config(32, 3, 3))
 	wrongs := []api.Update{
 		put("", ""), put(a[1:], "v"), put(a+"\x00", "v"), gone(""), gone(a[1:]), gone(a + "\x00"),
 		put(a, strings.Repeat("v", 101)), put(a, strings.Repeat("v", 100000)),
@@ -270,7 +263,7 @@ func TestBatchesThatMayNotBe(t *testing.T) {
 
 func TestTooManyUpdates(t *testing.T) {
 	a, b := from(""), from("\x80")
-	p := newPair(t, growing(32, 3, 3))
+	p := newTrio(t, config(32, 3, 3))
 	p.refuses(api.ErrLong, slices.Repeat([]api.Update{put(a, "a")}, 201)...)
 	p.refuses(api.ErrLong, slices.Repeat([]api.Update{gone(a)}, 201)...)
 	p.refuses(api.ErrLong, some(2, 1000)...) // there is no room for them either
@@ -281,7 +274,7 @@ func TestTooManyUpdates(t *testing.T) {
 
 func TestTooManyEntries(t *testing.T) {
 	list := some(3, 2001)
-	p := newPair(t, growing(16, 1, 100000))
+	p := newTrio(t, config(16, 1, 100000))
 	for at := 0; at < 1800; at += 200 {
 		p.must(list[at : at+200]...)
 	}
@@ -298,9 +291,10 @@ func TestTooManyEntries(t *testing.T) {
 	p.must(gone(list[2].Index), gone(list[2].Index))
 	p.must(list[1])
 	p.refuses(api.ErrLong, list[2])
-	entries, _ := p.d.Entries(p.model.last().number)
-	if len(entries) != 2000 {
-		t.Errorf("P9: %d entries", len(entries))
+	for engine, d := range p.dirs {
+		if entries, _ := d.Entries(p.model.last().number); len(entries) != 2000 {
+			t.Errorf("P9: engine %d: %d entries", engine, len(entries))
+		}
 	}
 	p.agree(list[0].Index, list[1].Index, list[2].Index, list[2000].Index)
 }
@@ -308,14 +302,14 @@ func TestTooManyEntries(t *testing.T) {
 // TestTooLongAheadOfFull: 2000 entries, and room for not one cell more.
 func TestTooLongAheadOfFull(t *testing.T) {
 	list := some(3, 2001)
-	filled := func(cells int) *pair {
-		p := newPair(t, growing(16, 50, cells))
+	filled := func(cells int) *trio {
+		p := newTrio(t, config(16, 50, cells))
 		for at := 0; at < 2000; at += 200 {
 			p.must(list[at : at+200]...)
 		}
 		return p
 	}
-	p := filled(filled(100000).d.Cells())
+	p := filled(filled(100000).dirs[0].Cells())
 	p.refuses(api.ErrFull, put(list[0].Index, "x"))
 	p.refuses(api.ErrLong, list[2000])
 	p.refuses(api.ErrLong, slices.Repeat([]api.Update{put(list[0].Index, "x")}, 201)...)
@@ -326,7 +320,7 @@ func TestTooLongAheadOfFull(t *testing.T) {
 // the one that would be forgotten then (P7).
 func TestFull(t *testing.T) {
 	a, b, c := from(""), from("\x80"), from("\x40")
-	p := newPair(t, growing(32, 1, 3))
+	p := newTrio(t, config(32, 1, 3))
 	p.must(put(a, "a"))
 	p.must(put(b, "b"))
 	p.cells("the first epoch is forgotten", 3)
@@ -346,7 +340,7 @@ func TestFull(t *testing.T) {
 // TestFullTillPruned: what Prune forgets makes room.
 func TestFullTillPruned(t *testing.T) {
 	a, b := from(""), flip(from(""), 255)
-	p := newPair(t, growing(32, 50, 258+257))
+	p := newTrio(t, config(32, 50, 258+257))
 	p.must(put(a, "a"))
 	p.must(put(b, "b"))
 	p.must(put(b, "c"))
@@ -364,25 +358,26 @@ func TestFullTillPruned(t *testing.T) {
 
 func TestWindowForgets(t *testing.T) {
 	for _, window := range []int{1, 2, 3, 50} {
-		p := newPair(t, growing(4, window, 1000))
+		p := newTrio(t, config(4, window, 1000))
 		list := some(int64(window), window+10)
 		for i, u := range list {
 			p.must(u, gone(list[max(0, i-3)].Index))
 			p.agree(list[0].Index, u.Index)
 		}
-		first, last := p.d.Kept()
-		if last != window+10 || first != last-window+1 {
-			t.Errorf("P8: Kept() = %d, %d with the window %d", first, last, window)
+		for engine, d := range p.dirs {
+			if first, last := d.Kept(); first != 11 || last != window+10 {
+				t.Errorf("P8: engine %d: Kept() = %d, %d with the window %d", engine, first, last, window)
+			}
 		}
-		for epoch := -1; epoch < first; epoch++ {
+		for epoch := -1; epoch < 11; epoch++ {
 			p.notKept(epoch)
 		}
-		p.notKept(last + 1)
+		p.notKept(window + 11)
 	}
 }
 
 func TestPrune(t *testing.T) {
-	p := newPair(t, growing(32, 10, 1000))
+	p := newTrio(t, config(32, 10, 1000))
 	list := some(9, 30)
 	for _, u := range list[:10] {
 		p.must(u)
@@ -408,15 +403,17 @@ func TestPrune(t *testing.T) {
 }
 
 func TestProveRefuses(t *testing.T) {
-	p := newPair(t, growing(32, 10, 1000))
+	p := newTrio(t, config(32, 10, 1000))
 	p.must(put(from(""), "v"))
 	for epoch := range 2 {
 		for _, index := range []string{"", "x", from("")[1:], from("") + "\x00", strings.Repeat("x", 1000)} {
-			if text, e := p.d.Prove(epoch, index); text != "" || e != api.ErrArg {
-				t.Errorf("P10: Prove(%d) of %d bytes = %x, %d", epoch, len(index), text, e)
-			}
-			if text, e := p.d.Prove(2, index); text != "" || e != api.ErrEpoch {
-				t.Errorf("P10: Prove(2) of %d bytes = %x, %d", len(index), text, e)
+			for engine, d := range p.dirs {
+				if text, e := d.Prove(epoch, index); text != "" || e != api.ErrArg {
+					t.Errorf("P10: engine %d: Prove(%d) of %d bytes = %x, %d", engine, epoch, len(index), text, e)
+				}
+				if text, e := d.Prove(2, index); text != "" || e != api.ErrEpoch {
+					t.Errorf("P10: engine %d: Prove(2) of %d bytes = %x, %d", engine, len(index), text, e)
+				}
 			}
 		}
 	}
@@ -427,11 +424,9 @@ func TestProveRefuses(t *testing.T) {
 func TestSiblingLikeEmpty(t *testing.T) {
 	a, b := from(""), from("\x80")
 	value := number(func(s string) bool { return h(1, "\x01", b, h(1, "\x04", s)) == h(1, "\x00") })
-	p := newPair(t, growing(1, 3, 100))
+	p := newTrio(t, config(1, 3, 100))
 	p.must(put(a, "a"), put(b, value))
-	if text, e := p.d.Prove(1, a); text != "\x01\x00\x01\x00a" || e != api.OK {
-		t.Errorf("P10: Prove = %x, %d", text, e)
-	}
+	p.proves(1, a, "\x01\x00\x01\x00a")
 	p.agree(a, b, from("\x40"), from("\xc0"))
 }
 
@@ -441,62 +436,69 @@ func TestDigestsAreNotEntries(t *testing.T) {
 	a, b := from(""), from("\x80")
 	one := ""
 	two := number(func(s string) bool { return h(1, "\x04", s) == h(1, "\x04", one) })
-	p := newPair(t, growing(1, 3, 100))
+	p := newTrio(t, config(1, 3, 100))
 	p.must(put(a, one), put(b, "b"))
 	p.must(put(a, two))
 	p.cells("a leaf and a node more", 5)
 	p.agree(a, b)
-	first, _ := p.d.Root(1)
-	second, _ := p.d.Root(2)
-	text, _ := p.d.Prove(1, a)
-	other, _ := p.d.Prove(2, a)
-	x, y, e := proof.Clash(first, a, text, other)
-	if first != second || e != api.OK || x != "\x04"+one || y != "\x04"+two {
-		t.Errorf("P5: Clash = %x, %x, %d", x, y, e)
+	for engine, d := range p.dirs {
+		first, _ := d.Root(1)
+		second, _ := d.Root(2)
+		text, _ := d.Prove(1, a)
+		other, _ := d.Prove(2, a)
+		x, y, e := proof.Clash(first, a, text, other)
+		if first != second || e != api.OK || x != "\x04"+one || y != "\x04"+two {
+			t.Errorf("P5: engine %d: Clash = %x, %x, %d", engine, x, y, e)
+		}
 	}
 }
 
 // TestNothingIsKept: what was handed in may be written over (P2).
 func TestNothingIsKept(t *testing.T) {
-	p := newPair(t, growing(32, 3, 100))
-	index, value := []byte(from("\x12")), []byte("a value")
+	p := newTrio(t, config(32, 3, 100))
 	text := func(b []byte) string { return unsafe.String(&b[0], len(b)) }
-	spare := append(make([]api.Update, 0, 4), put(text(index), text(value)), put("spare", ""), put("room", ""))
-	if n, e := p.d.Apply(spare[:1]); n != 1 || e != api.OK {
-		t.Fatalf("P7: Apply = %d, %d", n, e)
-	}
-	if spare[1].Index != "spare" || spare[2].Index != "room" {
-		t.Errorf("P2: Apply wrote into the spare room: %s", shown(spare))
+	for engine, d := range p.dirs {
+		index, value := []byte(from("\x12")), []byte("a value")
+		spare := append(make([]api.Update, 0, 4), put(text(index), text(value)), put("spare", ""), put("room", ""))
+		if n, e := d.Apply(spare[:1]); n != 1 || e != api.OK {
+			t.Fatalf("P7: engine %d: Apply = %d, %d", engine, n, e)
+		}
+		if spare[1].Index != "spare" || spare[2].Index != "room" {
+			t.Errorf("P2: engine %d: Apply wrote into the spare room: %s", engine, shown(spare))
+		}
+		spare[0] = put("changed", "by its owner")
+		copy(index, "written over")
+		copy(value, "written over")
+		other, _ := d.Prove(1, text(index))
+		copy(index, "and once more")
+		if again, _ := d.Prove(1, from("\x12")); again == other {
+			t.Errorf("P10: engine %d: two indexes, one proof: %x", engine, again)
+		}
 	}
 	p.model.apply([]api.Update{put(from("\x12"), "a value")})
-	spare[0] = put("changed", "by its owner")
-	copy(index, "written over")
-	copy(value, "written over")
 	p.agree(from("\x12"))
-	text1, _ := p.d.Prove(1, text(index))
-	copy(index, "and once more")
-	if again, _ := p.d.Prove(1, from("\x12")); again == text1 {
-		t.Errorf("P10: two indexes, one proof: %x", again)
-	}
-	p.agree(from("\x12"))
+	p.must(put(from("\x13"), ""))
+	p.agree(from("\x12"), from("\x13"))
 }
 
 // TestListsAreTheCallers: what comes out may be written over, its spare room too (P2).
 func TestListsAreTheCallers(t *testing.T) {
-	p := newPair(t, growing(32, 3, 1000))
+	p := newTrio(t, config(32, 3, 1000))
 	p.must(some(4, 5)...)
 	p.must(some(5, 6)...)
-	one, _ := p.d.Entries(2)
-	two, _ := p.d.Entries(2)
-	other, _ := p.d.Entries(1)
-	for _, list := range [][]api.Update{one, other} {
-		list = list[:cap(list)]
-		for i := range list {
-			list[i] = put("mine", "")
+	for engine, d := range p.dirs {
+		one, _ := d.Entries(2)
+		two, _ := d.Entries(2)
+		other, _ := d.Entries(1)
+		for _, list := range [][]api.Update{one, other} {
+			list = list[:cap(list)]
+			for i := range list {
+				list[i] = put("mine", "")
+			}
 		}
-	}
-	if !slices.Equal(two, p.model.last().state.list()) {
-		t.Errorf("P2: one list wrote into another: %s", shown(two))
+		if !slices.Equal(two, p.model.last().state.list()) {
+			t.Errorf("P2: engine %d: one list wrote into another: %s", engine, shown(two))
+		}
 	}
 	p.agree()
 	p.must(some(6, 3)...)
@@ -505,7 +507,7 @@ func TestListsAreTheCallers(t *testing.T) {
 
 // TestDirectoriesAreApart: what one does touches no other (P2).
 func TestDirectoriesAreApart(t *testing.T) {
-	pairs := []*pair{newPair(t, growing(32, 3, 1000)), newPair(t, growing(32, 3, 1000)), newPair(t, growing(1, 1, 40))}
+	pairs := []*trio{newTrio(t, config(32, 3, 1000)), newTrio(t, config(32, 3, 1000)), newTrio(t, config(1, 1, 40))}
 	r := rand.New(rand.NewSource(8))
 	indexes := pool(r, 5)
 	for range 60 {
@@ -524,13 +526,18 @@ func TestDirectoriesAreApart(t *testing.T) {
 // TestNoGoroutineIsLeft when a call answers (P1).
 func TestNoGoroutineIsLeft(t *testing.T) {
 	before := runtime.NumGoroutine()
-	d, _ := thicket.New(growing(32, 2, 3000))
-	for at := range 40 {
-		d.Apply(some(int64(at), 200)) // taken or refused
-		d.Apply(nil)
-		d.Apply([]api.Update{gone("x")})
-		_, last := d.Kept()
-		d.Prune(last)
+	p := newTrio(t, config(32, 2, 3000))
+	for _, d := range p.dirs {
+		for at := range 40 {
+			d.Apply(some(int64(at), 200)) // taken or refused
+			d.Apply(nil)
+			d.Apply([]api.Update{gone("x")})
+			_, last := d.Kept()
+			d.Root(last)
+			d.Prove(last, from(""))
+			d.Prove(last, "")
+			d.Prune(last)
+		}
 	}
 	// One that has sent its last may take a moment to be taken off the count.
 	for range 100 {
